@@ -1,0 +1,1 @@
+"""Ropes among pegs, and the taut one of each."""
